@@ -14,24 +14,32 @@ func (db *DB) commit(t *transaction) api.Errno {
 	if t.conflicts() {
 		return api.ErrConflict
 	}
-	if db.failed || db.file.Dead() {
+	if !db.makeSure(changes) {
 		db.failed = true
 		return api.ErrDisk
 	}
-	plan, meta := db.plan(changes)
-	if !db.write(plan, meta) {
-		db.failed = true
-		return api.ErrDisk
-	}
-	db.ahead = db.sure.Root
-	db.sure = meta
 	for _, other := range db.open {
 		other.lose(changes)
 	}
 	return api.OK
 }
 
-// plan is all that is to be written for changes of what is sure. It is known as a whole ahead of the first write: so no room is told even if the file would fail.
+// makeSure lets the file have changes; false: it fails, or what it has is not known since an earlier Commit.
+func (db *DB) makeSure(changes tree.Changes) bool {
+	// A dead file can't be asked for room.
+	if db.file.Dead() {
+		return false
+	}
+	plan, meta := db.plan(changes)
+	if db.failed || !db.write(plan, meta) {
+		return false
+	}
+	db.ahead = db.sure.Root
+	db.sure = meta
+	return true
+}
+
+// plan is all that is to be written for changes of what is sure. It is known as a whole ahead of the first write: so ErrFull is told even if the file would fail, or has failed.
 func (db *DB) plan(changes tree.Changes) (tree.Plan, api.Page) {
 	db.checkMeta()
 	next := db.treeAt(db.sure.Root)

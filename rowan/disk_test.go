@@ -3,6 +3,7 @@ package rowan_test
 import (
 	"fmt"
 	"math/rand"
+	"strings"
 	"testing"
 
 	"rowan/api"
@@ -74,6 +75,8 @@ func (s *scene) wantStuck(t *testing.T) {
 	}
 	if !s.f.Dead() {
 		wantSeen(t, s.db, s.reads, s.was)
+		wantSeen(t, s.db, s.refused, merged(s.was, state("a", "late")))
+		wantSeen(t, s.db, s.conflicts, merged(s.old, state("c", "late")))
 		wantSeen(t, s.db, s.idle, s.old)
 		wantSure(t, s.db, s.version, s.old)
 	}
@@ -82,6 +85,27 @@ func (s *scene) wantStuck(t *testing.T) {
 	want(t, "P12: Commit of another key", s.db.Commit(s.others), api.ErrDisk)
 	want(t, "P12: Commit of a key that was not made sure of", s.db.Commit(s.conflicts), api.ErrDisk)
 	want(t, "P11: Commit of one that changed nothing", s.db.Commit(s.idle), api.OK)
+	s.wantLateStuck(t)
+}
+
+// wantLateStuck: P12, nor is one done that begins behind it.
+func (s *scene) wantLateStuck(t *testing.T) {
+	t.Helper()
+	late, huge := begun(t, s.db, true), begun(t, s.db, true)
+	put(t, s.db, late, "c", "late")
+	for key := range numbered(s.f.Pages(), 5, "") {
+		put(t, s.db, huge, key, longest)
+	}
+	full := api.ErrDisk
+	if !s.f.Dead() {
+		wantSeen(t, s.db, late, merged(s.old, state("c", "late")))
+		full = api.ErrFull
+	}
+	want(t, "P1, P12: Commit of what there is no room for", s.db.Commit(huge), full)
+	want(t, "P12: Commit of one that began behind it", s.db.Commit(late), api.ErrDisk)
+	if !s.f.Dead() {
+		wantSure(t, s.db, s.version, s.old)
+	}
 }
 
 // wantWhole: P12, Open finds a Commit done as a whole or not at all; done, if it answered OK.
@@ -95,16 +119,7 @@ func (s *scene) wantWhole(t *testing.T, f *file.File, told api.Errno) {
 	} else {
 		wantSure(t, db, s.version, s.old)
 	}
-	version := db.Version()
-	f.Crash(nil)
-	if v := opened(t, f).Version(); v != version {
-		t.Errorf("P12: Version() = %d behind another crash, want %d", v, version)
-	}
-	db = opened(t, f)
-	commitPairs(t, db, "e", "behind it")
-	if v := opened(t, f).Version(); v != version+1 {
-		t.Errorf("P12: Version() = %d behind another Commit, want %d", v, version+1)
-	}
+	wantStays(t, f, db.Version())
 }
 
 // TestFileFails: P11 and P12, whichever call of the file fails in a Commit, and whichever one it dies at.
@@ -166,16 +181,46 @@ func TestDeadFile(t *testing.T) {
 	wantSure(t, opened(t, s.f), 2, s.old)
 }
 
-// TestRoomIsToldFirst: P1 and P11, where there is no room and the file fails, too, the former is told.
-func TestRoomIsToldFirst(t *testing.T) {
-	f := file.New(40)
-	db := opened(t, f)
-	tx := replaced(t, db, nil, numbered(30, 3, longest))
-	f.Fail(0)
-	want(t, "P11: Commit", db.Commit(tx), api.ErrFull)
-	if f.Failed() != 0 {
-		t.Error("P11: a Commit without room wrote to the file")
+// TestDeadForAWhile: P12, only a Commit that told ErrDisk keeps later ones from being done.
+func TestDeadForAWhile(t *testing.T) {
+	s := staged(t, 1)
+	s.f.Die(0)
+	wantGet(t, s.db, s.reads, "a", "", api.ErrDisk)
+	want(t, "P12: Delete", s.db.Delete(s.others, "a"), api.ErrDisk)
+	want(t, "P11: Commit of one that conflicts", s.db.Commit(s.refused), api.ErrConflict)
+	want(t, "P11: Commit of one that changed nothing", s.db.Commit(s.idle), api.OK)
+	want(t, "P11: Abort", s.db.Abort(s.conflicts), api.OK)
+	if tx, e := s.db.Begin(true); tx == 0 || e != api.OK {
+		t.Errorf("P7: Begin = %d, %d", tx, e)
 	}
+	s.f.Crash(nil)
+	want(t, "P12: Commit", s.db.Commit(s.writes), api.OK)
+	want(t, "P12: Commit of another key", s.db.Commit(s.others), api.OK)
+	wantSeen(t, s.db, s.reads, s.was)
+	wantSure(t, opened(t, s.f), s.version+2, merged(s.next, state("d", "other")))
+}
+
+// TestOnlyCommitMeetsTheFailure: P12, a file that would fail does not at any other call, nor at a Commit that has nothing to make sure of.
+func TestOnlyCommitMeetsTheFailure(t *testing.T) {
+	s := staged(t, 0)
+	s.f.Fail(0)
+	wantSeen(t, s.db, s.reads, s.was)
+	wantSure(t, s.db, s.version, s.old)
+	put(t, s.db, s.others, "e", longest)
+	deleted(t, s.db, s.others, "b")
+	want(t, "P10: Delete", s.db.Delete(s.others, "b"), api.ErrNone)
+	want(t, "P11: Commit of one that conflicts", s.db.Commit(s.refused), api.ErrConflict)
+	want(t, "P11: Commit of one that changed nothing", s.db.Commit(s.idle), api.OK)
+	want(t, "P11: Abort", s.db.Abort(s.conflicts), api.OK)
+	want(t, "P1, P11: Commit of what there is no room for", s.db.Commit(replaced(t, s.db, nil, numbered(s.f.Pages(), 5, longest))), api.ErrFull)
+	if n := s.f.Failed(); n != 0 {
+		t.Fatalf("P12: %d calls of the file have failed", n)
+	}
+	want(t, "P11: Commit", s.db.Commit(s.writes), api.ErrDisk)
+	if n := s.f.Failed(); n != 1 {
+		t.Errorf("P12: %d calls of the file have failed", n)
+	}
+	want(t, "P12: Commit behind it", s.db.Commit(s.others), api.ErrDisk)
 }
 
 // TestUnsyncedIsMadeSure: P12, what Open found that was not synced is sure from then on.
@@ -191,6 +236,34 @@ func TestUnsyncedIsMadeSure(t *testing.T) {
 		s.f.Crash(nil)
 		if v := opened(t, s.f).Version(); v != found {
 			t.Errorf("P12: Version() = %d behind a crash, but was %d", v, found)
+		}
+	}
+}
+
+// TestReadersBehindAFailedCommit: P12, a Commit that told ErrDisk has written over nothing that an open transaction sees, of whichever version, nor does a crash behind it.
+func TestReadersBehindAFailedCommit(t *testing.T) {
+	r := rand.New(rand.NewSource(1))
+	for behind, failed := 0, true; failed; behind++ {
+		f := file.New(120)
+		db := opened(t, f)
+		saw := map[int]map[string]string{}
+		for i := range 5 {
+			last := numbered(5, 9, strings.Repeat(fmt.Sprint(i), 100))
+			commitState(t, db, last)
+			saw[begun(t, db, i%2 == 0)] = last
+		}
+		tx := replaced(t, db, nil, numbered(8, 9, longest))
+		f.Fail(behind)
+		e := db.Commit(tx)
+		failed = f.Failed() > 0
+		if (e == api.ErrDisk) != failed {
+			t.Fatalf("P12: Commit = %d, a call fails behind %d: %v", e, behind, failed)
+		}
+		for range 2 {
+			for reader, state := range saw {
+				wantSeen(t, db, reader, state)
+			}
+			f.Crash(anyKeep(r))
 		}
 	}
 }

@@ -2,7 +2,6 @@ package rowan_test
 
 import (
 	"fmt"
-	"math/rand"
 	"sync"
 	"testing"
 	"unsafe"
@@ -70,12 +69,10 @@ func TestNotKept(t *testing.T) {
 func TestTheSameAgain(t *testing.T) {
 	var files [2]*file.File
 	for i := range files {
-		r := rand.New(rand.NewSource(7))
-		c := &trial{t: t, r: r, f: file.New(120), m: newModel(120), keys: someKeys(r, 30)}
-		c.db = opened(t, c.f)
-		for range 500 {
-			c.step()
-		}
+		c := newTrial(t, 7, 120)
+		c.steps(500, c.strike)
+		// A dead file can't be read.
+		c.f.Crash(nil)
 		files[i] = c.f
 	}
 	for place := range files[0].Pages() {

@@ -1,16 +1,9 @@
 package rowan_test
 
 import (
-	"fmt"
 	"maps"
-	"math/rand"
-	"slices"
-	"strings"
-	"testing"
 
 	"rowan/api"
-	"rowan/file"
-	"rowan/rowan"
 )
 
 // model is the store once more, by the words of the document: each state is a whole map, and every commit is remembered.
@@ -21,6 +14,15 @@ type model struct {
 	commits []map[string]bool // the keys that each has changed
 	last    int
 	open    map[int]*modelTx
+	// Behind a Commit that told ErrDisk, till Open: it may have been done, or not.
+	failed    bool
+	maybe     map[string]string
+	maybeKeys map[string]bool
+}
+
+// trouble is what a file does in a call: whether ErrDisk may be told of it, and whether it must be.
+type trouble struct {
+	may, must bool
 }
 
 type modelTx struct {
@@ -35,10 +37,14 @@ func newModel(pages int) *model {
 	return &model{pages: pages, sure: map[string]string{}, ahead: map[string]string{}, open: map[int]*modelTx{}}
 }
 
-// reopened is the model behind a second Open: nothing is open.
-func (m *model) reopened() {
+// reopened is the model behind a second Open, which found a version: nothing is open, and a Commit that told ErrDisk is done, or not.
+func (m *model) reopened(version int) {
+	if m.failed && version == len(m.commits)+1 {
+		m.done(m.maybe, m.maybeKeys)
+	}
 	m.last = 0
 	m.open = map[int]*modelTx{}
+	m.failed, m.maybe, m.maybeKeys = false, nil, nil
 }
 
 func (m *model) begin(write bool) (int, api.Errno) {
@@ -130,23 +136,22 @@ func (m *model) abort(tx int) api.Errno {
 	return api.OK
 }
 
-// commit is what Commit should answer, and whether it may answer ErrFull in its stead; told is what it did answer.
-func (m *model) commit(tx int, told api.Errno) (api.Errno, bool) {
+// ends is a transaction whose Commit has something to make sure of, and what would be sure then; nil: it has nothing, or it is refused. It is open no more.
+func (m *model) ends(tx int) (*modelTx, map[string]string, api.Errno) {
 	t := m.open[tx]
 	if t == nil {
-		return api.ErrHandle, false
+		return nil, nil, api.ErrHandle
 	}
-	if len(t.keys) == 0 {
-		delete(m.open, tx)
-		return api.OK, false
-	}
+	delete(m.open, tx)
 	for _, other := range m.commits[t.since:] {
 		for key := range other {
 			if t.keys[key] {
-				delete(m.open, tx)
-				return api.ErrConflict, false
+				return nil, nil, api.ErrConflict
 			}
 		}
+	}
+	if len(t.keys) == 0 {
+		return nil, nil, api.OK
 	}
 	next := maps.Clone(m.sure)
 	for key := range t.keys {
@@ -155,20 +160,37 @@ func (m *model) commit(tx int, told api.Errno) (api.Errno, bool) {
 			next[key] = value
 		}
 	}
-	full := !m.hasRoom(next)
-	delete(m.open, tx)
-	if full && told == api.ErrFull {
-		return api.ErrFull, true
-	}
-	m.ahead = m.sure
-	m.sure = next
-	m.commits = append(m.commits, t.keys)
-	return api.OK, full
+	return t, next, api.OK
 }
 
-// hasRoom: P13, there must be room for a state.
-func (m *model) hasRoom(next map[string]string) bool {
-	sum := needs(m.sure) + needs(m.ahead) + needs(next) + 2
+// commit is what Commit should answer; told is what it did answer, with what the file did meanwhile. ErrFull and ErrDisk are up to the store, where they may be told.
+func (m *model) commit(tx int, told api.Errno, disk trouble) api.Errno {
+	t, next, e := m.ends(tx)
+	if t == nil {
+		return e
+	}
+	switch {
+	case told == api.ErrFull && !m.hasRoom(t, next):
+		return told
+	case m.failed:
+		return api.ErrDisk
+	case disk.must, disk.may && told == api.ErrDisk:
+		m.failed = true
+		m.maybe, m.maybeKeys = next, t.keys
+		return api.ErrDisk
+	}
+	m.done(next, t.keys)
+	return api.OK
+}
+
+func (m *model) done(next map[string]string, keys map[string]bool) {
+	m.ahead, m.sure = m.sure, next
+	m.commits = append(m.commits, keys)
+}
+
+// hasRoom: P13, there must be room for what a transaction would make sure of.
+func (m *model) hasRoom(own *modelTx, next map[string]string) bool {
+	sum := needs(own.began) + needs(m.sure) + needs(m.ahead) + needs(next) + 2
 	for _, t := range m.open {
 		sum += needs(t.began)
 	}
@@ -185,145 +207,4 @@ func needs(state map[string]string) int {
 		}
 	}
 	return sum
-}
-
-// trial is a store and its model, which are asked the same.
-type trial struct {
-	t    *testing.T
-	r    *rand.Rand
-	f    *file.File
-	db   *rowan.DB
-	m    *model
-	keys []string
-	full int // so often Commit told ErrFull
-}
-
-func oneOf[T any](r *rand.Rand, values ...T) T { return values[r.Intn(len(values))] }
-
-// someKeys is keys of many lengths, some of which begin alike.
-func someKeys(r *rand.Rand, many int) []string {
-	var keys []string
-	for range many {
-		keys = append(keys, strings.Repeat(oneOf(r, "a", "b", "\x00", "\xff"), r.Intn(3))+fmt.Sprint(r.Intn(many*2))+strings.Repeat("x", r.Intn(19)))
-	}
-	return append(keys, longKey, "\x00", "\xff")
-}
-
-func (c *trial) key() string {
-	if c.r.Intn(40) == 0 {
-		return oneOf(c.r, "", tooLong, "none of them")
-	}
-	return oneOf(c.r, c.keys...)
-}
-
-func (c *trial) value() string {
-	if c.r.Intn(50) == 0 {
-		return tooGreat
-	}
-	size := oneOf(c.r, 0, 1, 7, 59, 60, 61, 239, 240, 241, 399, 400)
-	return strings.Repeat(string(rune('a'+c.r.Intn(26))), size)
-}
-
-// tx is a number of a transaction that is open, most of the time.
-func (c *trial) tx() int {
-	if len(c.m.open) == 0 || c.r.Intn(30) == 0 {
-		return oneOf(c.r, 0, -1, c.m.last, c.m.last+1, 1<<62)
-	}
-	return oneOf(c.r, slices.Sorted(maps.Keys(c.m.open))...)
-}
-
-func (c *trial) step() {
-	switch n := c.r.Intn(100); {
-	case n < 8:
-		c.begin()
-	case n < 50:
-		c.change()
-	case n < 62:
-		tx, key := c.tx(), c.key()
-		value, should := c.m.get(tx, key)
-		wantGet(c.t, c.db, tx, key, value, should)
-	case n < 75:
-		c.scan()
-	case n < 80:
-		tx := c.tx()
-		want(c.t, "P11: Abort", c.db.Abort(tx), c.m.abort(tx))
-	case n < 99:
-		c.commit(c.tx())
-	default:
-		c.db = opened(c.t, c.f)
-		c.m.reopened()
-	}
-}
-
-func (c *trial) begin() {
-	write := c.r.Intn(4) > 0
-	tx, e := c.db.Begin(write)
-	if n, should := c.m.begin(write); tx != n || e != should {
-		c.t.Errorf("P7: Begin(%v) = %d, %d, want %d, %d", write, tx, e, n, should)
-	}
-}
-
-func (c *trial) change() {
-	for tx := c.tx(); c.r.Intn(6) > 0; {
-		key, value := c.key(), c.value()
-		if c.r.Intn(3) == 0 {
-			want(c.t, fmt.Sprintf("P10: Delete(%d, %q)", tx, key), c.db.Delete(tx, key), c.m.delete(tx, key))
-			continue
-		}
-		want(c.t, fmt.Sprintf("P10: Put(%d, %q, %.9q)", tx, key, value), c.db.Put(tx, key, value), c.m.put(tx, key, value))
-	}
-}
-
-func (c *trial) scan() {
-	tx, from, to := c.tx(), oneOf(c.r, "", c.key()), oneOf(c.r, "", c.key())
-	most := oneOf(c.r, -1, 0, 1, 2, 5, 1<<40)
-	list, e := c.db.Scan(tx, from, to, most)
-	should, answer := c.m.scan(tx, from, to, most)
-	if !slices.Equal(list, should) || e != answer {
-		c.t.Errorf("P8: Scan(%d, %q, %q, %d) = %s, %d, want %s, %d", tx, from, to, most, shown(list), e, shown(should), answer)
-	}
-	all, _ := c.m.scan(tx, from, to, 1<<40)
-	wantEach(c.t, c.db, tx, from, to, all)
-}
-
-func (c *trial) commit(tx int) {
-	e := c.db.Commit(tx)
-	should, mayBeFull := c.m.commit(tx, e)
-	if e == api.ErrFull {
-		c.full++
-	}
-	if e != should && !(mayBeFull && e == api.ErrFull) {
-		c.t.Errorf("P11, P13: Commit(%d) = %d, want %d", tx, e, should)
-	}
-	version := len(c.m.commits)
-	if v := c.db.Version(); v != version {
-		c.t.Errorf("P6: Version() = %d, want %d", v, version)
-	}
-	if c.r.Intn(5) == 0 {
-		wantSure(c.t, opened(c.t, c.f.Copy()), version, c.m.sure)
-	}
-	for n, other := range c.m.open {
-		wantScan(c.t, c.db, n, "", "", 1<<40, listed(other.sees))
-	}
-}
-
-// TestAsTheModel: P6 to P11 and P13, any calls in any order answer as the document says.
-func TestAsTheModel(t *testing.T) {
-	full := 0
-	for seed := range int64(60) {
-		r := rand.New(rand.NewSource(seed))
-		pages := oneOf(r, 40, 50, 70, 120, 400, 4096)
-		c := &trial{t: t, r: r, f: file.New(pages), m: newModel(pages), keys: someKeys(r, oneOf(r, 3, 10, 40, 150))}
-		c.db = opened(t, c.f)
-		for range 600 {
-			c.step()
-			if t.Failed() {
-				t.Fatalf("seed %d, %d pages", seed, pages)
-			}
-		}
-		full += c.full
-	}
-	if full == 0 {
-		t.Error("P13: no Commit told ErrFull: the trial does not reach it")
-	}
 }

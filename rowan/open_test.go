@@ -102,47 +102,6 @@ func TestFoundAgain(t *testing.T) {
 	wantSure(t, opened(t, f), 13, all)
 }
 
-// TestOpenOnABadFile: P6, a file that fails or is dead.
-func TestOpenOnABadFile(t *testing.T) {
-	f := file.New(40)
-	commitPairs(t, opened(t, f), "a", "x")
-	f.Die(0)
-	wantNotOpened(t, "dead", f, api.ErrDisk)
-	wantNotOpened(t, "still dead", f, api.ErrDisk)
-	f.Crash(nil)
-	wantSure(t, opened(t, f), 1, state("a", "x"))
-	g := f.Copy()
-	g.Fail(0)
-	if db, e := rowan.Open(g); (e == api.ErrDisk) != (g.Failed() > f.Failed()) || (e == api.OK) != (db != nil) {
-		t.Errorf("P6: Open of a file that fails = %v, %d", db, e)
-	}
-	wantSure(t, opened(t, f), 1, state("a", "x"))
-}
-
-// TestMendingFails: P6, a file that fails or dies while Open mends one of its first pages.
-func TestMendingFails(t *testing.T) {
-	f := file.New(40)
-	commitPairs(t, opened(t, f), "a", "x")
-	commitPairs(t, opened(t, f), "b", "y")
-	for behind := range 6 {
-		fails, dies := f.Copy(), f.Copy()
-		fails.Spoil(1, 0, 1)
-		dies.Spoil(1, 255, 1)
-		fails.Fail(behind)
-		dies.Die(behind)
-		if db, e := rowan.Open(fails); (e == api.ErrDisk) != (fails.Failed() > 0) || (e == api.OK) != (db != nil) {
-			t.Errorf("P6: Open of a file that fails behind %d calls = %v, %d", behind, db, e)
-		}
-		if db, e := rowan.Open(dies); (e == api.ErrDisk) != dies.Dead() || (e == api.OK) != (db != nil) {
-			t.Errorf("P6: Open of a file that dies behind %d calls = %v, %d", behind, db, e)
-		}
-		for _, g := range []*file.File{fails, dies} {
-			g.Crash(nil)
-			wantSure(t, opened(t, g), 2, state("a", "x", "b", "y"))
-		}
-	}
-}
-
 // TestOpenOfNoStore: P1 and P6, a file that has something else in its first pages.
 func TestOpenOfNoStore(t *testing.T) {
 	f := file.New(40)
