@@ -73,6 +73,23 @@ func wantEnds(db *rowan.DB) {
 	db.Abort(reads)
 }
 
+// wantVaried: a trial is worth something only if it is refused at times, and at times not.
+func wantVaried(t *testing.T, told []api.Errno) {
+	t.Helper()
+	slices.Sort(told)
+	told = slices.Compact(told)
+	if !slices.Contains(told, api.OK) || !slices.Contains(told, api.ErrCorrupt) {
+		t.Errorf("P1: the trial answers %d alone", told)
+	}
+}
+
+// lastCommit is what a store answers to a change.
+func lastCommit(db *rowan.DB) api.Errno {
+	tx, _ := db.Begin(true)
+	db.Put(tx, "k", "v")
+	return db.Commit(tx)
+}
+
 // TestAnyFile: P1, every call ends and none panics, whatever the file has.
 func TestAnyFile(t *testing.T) {
 	var told []api.Errno
@@ -80,15 +97,32 @@ func TestAnyFile(t *testing.T) {
 		db, e := rowan.Open(anyFile(rand.New(rand.NewSource(seed))))
 		if e == api.OK {
 			wantEnds(db)
-			writes, _ := db.Begin(true)
-			db.Put(writes, "k", "v")
-			e = db.Commit(writes)
+			e = lastCommit(db)
 		}
 		told = append(told, e)
 	}
-	slices.Sort(told)
-	told = slices.Compact(told)
-	if !slices.Contains(told, api.OK) || !slices.Contains(told, api.ErrCorrupt) {
-		t.Errorf("P1: the trial answers %d alone", told)
+	wantVaried(t, told)
+}
+
+// TestAnyPages: P1, every call ends and none panics, whatever becomes of the pages of a store that is open.
+func TestAnyPages(t *testing.T) {
+	var told []api.Errno
+	for seed := range int64(1000) {
+		r := rand.New(rand.NewSource(seed))
+		f := file.New(api.MinPages)
+		db := opened(t, f)
+		for i := range 3 {
+			commitPairs(t, db, "a", longest[:i], "b", longest)
+			begun(t, db, i > 0)
+		}
+		for place := 2; place < f.Pages(); place++ {
+			f.Write(place, anyPage(r, f.Pages()+r.Intn(2)))
+		}
+		wantEnds(db)
+		for tx := range 4 {
+			db.Abort(tx)
+		}
+		told = append(told, lastCommit(db))
 	}
+	wantVaried(t, told)
 }

@@ -12,46 +12,40 @@ const metas = 2
 
 func placeOf(meta api.Page) int { return meta.Version % metas }
 
-// metaAt is the Meta page in a place; false: there is none. One that was never written tells of a new store.
-func metaAt(f *file.File, place int) (api.Page, bool) {
+// metaPage is what stands in the place of a Meta page.
+type metaPage struct {
+	place int
+	right bool // else it was torn or turned
+	page  api.Page
+}
+
+// metaAt reads a Meta page. One that was never written tells of a new store.
+func metaAt(f *file.File, place int) metaPage {
 	s, _ := f.Read(place)
 	if s == string(make([]byte, api.PageSize)) {
-		return api.Page{Kind: api.Meta}, true
+		return metaPage{place: place, right: true, page: api.Page{Kind: api.Meta}}
 	}
 	p, e := page.Decode(s)
-	return p, e == api.OK && p.Kind == api.Meta
+	return metaPage{place: place, right: e == api.OK && p.Kind == api.Meta, page: p}
 }
 
-// readMetas is what is sure, and what was sure ahead of it, if that is known. If one of the two pages was torn or turned, it gets what the other one has: else there would be none to fall back upon.
-func readMetas(f *file.File) (api.Page, api.Page, api.Errno) {
-	sure, first := metaAt(f, 0)
-	ahead, second := metaAt(f, 1)
-	switch {
-	case !first && !second:
-		return api.Page{}, api.Page{}, api.ErrCorrupt
-	case !first:
-		return again(f, 0, ahead)
-	case !second:
-		return again(f, 1, sure)
-	}
-	if sure.Version < ahead.Version {
-		sure, ahead = ahead, sure
-	}
-	return sure, ahead, api.OK
+// olderThan tells whether another Meta page is to be believed in the stead of this one.
+func (m metaPage) olderThan(other metaPage) bool {
+	return other.right && (!m.right || m.page.Version < other.page.Version)
 }
 
-// again writes the one Meta page there is into the other one's place.
-func again(f *file.File, place int, meta api.Page) (api.Page, api.Page, api.Errno) {
-	if !f.Write(place, tree.Encoded(meta)) || !f.Sync() || f.Dead() {
-		return api.Page{}, api.Page{}, api.ErrDisk
+// readMetas is the Meta page that tells what is sure, and the other one.
+func readMetas(f *file.File) (metaPage, metaPage) {
+	sure, ahead := metaAt(f, 0), metaAt(f, 1)
+	if sure.olderThan(ahead) {
+		return ahead, sure
 	}
-	return meta, meta, api.OK
+	return sure, ahead
 }
 
 // checkMeta gives up, if the page that tells what is sure was turned: it is all there is to fall back upon while the other one is written.
 func (db *DB) checkMeta() {
-	meta, found := metaAt(db.file, placeOf(db.sure))
-	if !found || meta.Version != db.sure.Version {
+	if !metaAt(db.file, placeOf(db.sure)).right {
 		panic(tree.GivenUp{Errno: api.ErrCorrupt})
 	}
 }

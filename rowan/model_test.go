@@ -20,9 +20,10 @@ type model struct {
 	maybeKeys map[string]bool
 }
 
-// trouble is what a file does in a call: whether ErrDisk may be told of it, and whether it must be.
+// trouble is what a file does in a call: whether ErrDisk may be told of it, and whether it must be; and whether ErrCorrupt may be told.
 type trouble struct {
 	may, must bool
+	turned    bool
 }
 
 type modelTx struct {
@@ -37,10 +38,28 @@ func newModel(pages int) *model {
 	return &model{pages: pages, sure: map[string]string{}, ahead: map[string]string{}, open: map[int]*modelTx{}}
 }
 
+// foundBy is what Open should find with a version; false: it should not find it. If one of the first two pages was turned, it may have to fall back.
+func (m *model) foundBy(version int, turned bool) (map[string]string, bool) {
+	switch now := len(m.commits); {
+	case version == now:
+		return m.sure, true
+	case version == now+1 && m.failed:
+		return m.maybe, true
+	case version == now-1 && turned:
+		return m.ahead, true
+	}
+	return nil, false
+}
+
 // reopened is the model behind a second Open, which found a version: nothing is open, and a Commit that told ErrDisk is done, or not.
 func (m *model) reopened(version int) {
-	if m.failed && version == len(m.commits)+1 {
+	switch now := len(m.commits); version {
+	case now + 1:
 		m.done(m.maybe, m.maybeKeys)
+	case now - 1:
+		// What was ahead of that is not known any more.
+		m.sure, m.ahead = m.ahead, map[string]string{}
+		m.commits = m.commits[:version]
 	}
 	m.last = 0
 	m.open = map[int]*modelTx{}
@@ -170,6 +189,8 @@ func (m *model) commit(tx int, told api.Errno, disk trouble) api.Errno {
 		return e
 	}
 	switch {
+	case told == api.ErrCorrupt && disk.turned:
+		return told
 	case told == api.ErrFull && !m.hasRoom(t, next):
 		return told
 	case m.failed:

@@ -3,8 +3,6 @@ package rowan_test
 import (
 	"fmt"
 	"maps"
-	"math/rand"
-	"strings"
 	"testing"
 
 	"rowan/api"
@@ -97,27 +95,4 @@ func TestRoomComesBack(t *testing.T) {
 	commitPairs(t, db, "0", "x")
 	committed(t, db, replaced(t, db, next, numbered(8, 6, longest)))
 	wantSure(t, db, 4, merged(numbered(8, 6, longest), state("0", "x")))
-}
-
-// TestForEver: P13 and P15, a store can be changed for ever in a file that has room for it.
-func TestForEver(t *testing.T) {
-	r := rand.New(rand.NewSource(1))
-	f := file.New(90)
-	db := opened(t, f)
-	all := map[string]string{}
-	for i := range 1500 {
-		key, value := fmt.Sprintf("%0*d", 1+r.Intn(24), r.Intn(5)), strings.Repeat("v", r.Intn(401))
-		next := maps.Clone(all)
-		next[key] = value
-		if needs(next)*4+2 > f.Pages() {
-			next = state(key, value)
-		}
-		committed(t, db, replaced(t, db, all, next))
-		all = next
-		if i%100 == 0 {
-			db = opened(t, f)
-			wantSure(t, db, i+1, all)
-		}
-	}
-	wantSure(t, opened(t, f), 1500, all)
 }

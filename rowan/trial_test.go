@@ -22,6 +22,7 @@ type trial struct {
 	m    *model
 	keys []string
 	told map[api.Errno]int // so often Commit told each answer
+	turn turn
 }
 
 func newTrial(t *testing.T, seed int64, pages ...int) *trial {
@@ -86,16 +87,22 @@ func (c *trial) step() {
 	default:
 		c.reopen()
 	}
+	if c.db == nil {
+		return
+	}
 	if v := c.db.Version(); v != len(c.m.commits) {
 		c.t.Errorf("P6: Version() = %d, want %d", v, len(c.m.commits))
 	}
 }
 
-// steps makes so many steps, with something else ahead of each.
+// steps makes so many steps, with something else ahead of each, as long as there is a store.
 func (c *trial) steps(many int, ahead func()) {
 	c.t.Helper()
 	for i := range many {
 		ahead()
+		if c.db == nil {
+			return
+		}
 		c.step()
 		if c.t.Failed() {
 			c.t.Fatalf("step %d, %d pages", i, c.f.Pages())
@@ -122,9 +129,10 @@ func (c *trial) change() {
 	}
 }
 
-// excused: P12, a call that reads told ErrDisk of a dead file, which it may in the stead of what it should tell.
+// excused: P12 and P14, a call that reads told ErrDisk of a dead file, or ErrCorrupt of one with a byte that was turned, which it may in the stead of what it should tell.
 func (c *trial) excused(e api.Errno, should api.Errno) bool {
-	return e == api.ErrDisk && c.f.Dead() && should != api.ErrHandle && should != api.ErrRead && should != api.ErrArg
+	may := e == api.ErrDisk && c.f.Dead() || e == api.ErrCorrupt && c.turn.on
+	return may && should != api.ErrHandle && should != api.ErrRead && should != api.ErrArg
 }
 
 func (c *trial) delete(tx int, key string) {
@@ -162,9 +170,9 @@ func (c *trial) scan() {
 	c.each(tx, from, to, all)
 }
 
-// each holds Each against what it should tell, or, of a dead file, against the begin of that.
+// each holds Each against what it should tell, or, if it may end early, against the begin of that.
 func (c *trial) each(tx int, from string, to string, should []api.Pair) {
-	if c.f.Dead() {
+	if c.f.Dead() || c.turn.on {
 		told := 0
 		for range c.db.Each(tx, from, to) {
 			told++
@@ -178,41 +186,76 @@ func (c *trial) commit(tx int) {
 	failed, dead := c.f.Failed(), c.f.Dead()
 	e := c.db.Commit(tx)
 	must := dead || c.f.Failed() > failed
-	should := c.m.commit(tx, e, trouble{may: must || c.f.Dead(), must: must})
-	want(c.t, fmt.Sprintf("P11, P12, P13: Commit(%d)", tx), e, should)
+	version := len(c.m.commits)
+	should := c.m.commit(tx, e, trouble{may: must || c.f.Dead(), must: must, turned: c.turn.on})
+	want(c.t, fmt.Sprintf("P11, P12, P13, P14: Commit(%d)", tx), e, should)
 	c.told[e]++
+	if len(c.m.commits) > version {
+		c.turn.on = false
+	}
 	if c.r.Intn(5) == 0 {
 		c.wantFound()
 	}
-	if c.f.Dead() {
-		return
-	}
 	for n, other := range c.m.open {
-		wantScan(c.t, c.db, n, "", "", 1<<40, listed(other.sees))
+		c.wantSeen(n, other.sees)
 	}
 }
 
-// wantFound: P12, what Open finds behind a crash that comes now.
+// wantSeen: P8, a transaction sees this, unless the file can't tell it.
+func (c *trial) wantSeen(tx int, should map[string]string) {
+	list, e := c.db.Scan(tx, "", "", 1<<40)
+	if !c.excused(e, api.OK) && (e != api.OK || !slices.Equal(list, listed(should))) {
+		c.t.Errorf("P8: Scan(%d) = %s, %d, want %s", tx, shown(list), e, shown(listed(should)))
+	}
+}
+
+// wantFound: P12 and P14, what Open finds behind a crash that comes now.
 func (c *trial) wantFound() {
 	f := c.f.Copy()
 	f.Crash(anyKeep(c.r))
-	db := opened(c.t, f)
-	if c.m.failed && db.Version() == len(c.m.commits)+1 {
-		wantSure(c.t, db, db.Version(), c.m.maybe)
-		return
+	db, e := rowan.Open(f)
+	if c.isStore(db, e) {
+		wantSure(c.t, db, db.Version(), c.known(db))
 	}
-	wantSure(c.t, db, len(c.m.commits), c.m.sure)
 }
 
-// reopen opens the store anew: behind a crash, if the file does not let it.
+// isStore tells whether Open gave a store of a file that has not failed; P14: it may have told ErrCorrupt.
+func (c *trial) isStore(db *rowan.DB, e api.Errno) bool {
+	corrupt := e == api.ErrCorrupt && c.turn.on && !c.turn.ofMeta()
+	if e != api.OK && !corrupt || (db == nil) != corrupt {
+		c.t.Fatalf("P6, P12, P14: Open = %v, %d", db, e)
+	}
+	return db != nil
+}
+
+// known is what there should be in a store that Open found.
+func (c *trial) known(db *rowan.DB) map[string]string {
+	should, may := c.m.foundBy(db.Version(), c.turn.ofMeta())
+	if !may {
+		c.t.Fatalf("P12, P14: Version() = %d, but it was %d", db.Version(), len(c.m.commits))
+	}
+	return should
+}
+
+// reopen opens the store anew: behind a crash, if the file does not let it. If a byte was turned, there may be no store any more.
 func (c *trial) reopen() {
-	db := tried(c.t, c.f)
-	if db == nil {
+	failed := c.f.Failed()
+	db, e := rowan.Open(c.f)
+	if disk := c.f.Dead() || c.f.Failed() > failed; disk != (e == api.ErrDisk) {
+		c.t.Errorf("P6, P12: Open = %v, %d; the file is dead: %v; calls that failed: %d", db, e, c.f.Dead(), c.f.Failed()-failed)
+	}
+	if e == api.ErrDisk {
 		c.f.Crash(anyKeep(c.r))
-		db = opened(c.t, c.f)
+		db, e = rowan.Open(c.f)
 	}
 	c.db = db
+	if !c.isStore(db, e) {
+		return
+	}
+	c.known(db)
 	c.m.reopened(db.Version())
+	// A page that is wrong is mended, or was not needed.
+	c.turn.on = false
 	c.wantFound()
 }
 
@@ -241,6 +284,55 @@ func (c *trial) strike() {
 		c.f.Crash(anyKeep(c.r))
 	case n < 13 || c.m.failed && n < 40:
 		c.reopen()
+	}
+}
+
+// turn is a byte that is turned, at most once in a trial.
+type turn struct {
+	done bool
+	on   bool // the store may come to it still
+	page int
+}
+
+// ofMeta tells whether Open may have to fall back.
+func (b turn) ofMeta() bool { return b.on && b.page < 2 }
+
+// turnOnce turns a byte, now and then, of any page, where P14 speaks of it.
+func (c *trial) turnOnce() {
+	if c.turn.done || c.m.failed || c.r.Intn(80) > 0 {
+		return
+	}
+	c.turn = turn{done: true, on: true, page: oneOf(c.r, 0, 1, c.r.Intn(12), c.r.Intn(40), c.r.Intn(c.f.Pages()))}
+	c.f.Spoil(c.turn.page, c.r.Intn(api.PageSize), 1+c.r.Intn(255))
+}
+
+// TestAsTheModelWithATurnedByte: P6 to P14, any calls in any order answer as the document says when a byte was turned. (By P14 they may tell ErrCorrupt for ever; this store does not behind an Open or a Commit that it did.)
+func TestAsTheModelWithATurnedByte(t *testing.T) {
+	told, gone := map[api.Errno]int{}, 0
+	for seed := range int64(200) {
+		c := newTrial(t, seed, 40, 50, 70, 120)
+		for _, rough := range []bool{false, true} {
+			c.steps(200, func() {
+				c.turnOnce()
+				if rough && c.db != nil {
+					c.strike()
+				}
+			})
+		}
+		for e, n := range c.told {
+			told[e] += n
+		}
+		if c.db == nil {
+			gone++
+		}
+	}
+	for _, e := range []api.Errno{api.OK, api.ErrHandle, api.ErrConflict, api.ErrFull, api.ErrDisk, api.ErrCorrupt} {
+		if told[e] == 0 {
+			t.Errorf("P14: no Commit told %d: the trial does not reach it", e)
+		}
+	}
+	if gone == 0 {
+		t.Errorf("P14: no Open told %d: the trial does not reach it", api.ErrCorrupt)
 	}
 }
 
