@@ -72,7 +72,7 @@ func (c *trial) tx() int {
 func (c *trial) step() {
 	switch n := c.r.Intn(100); {
 	case n < 16:
-		c.begin()
+		c.begin(c.r.Intn(4) > 0)
 	case n < 54:
 		c.change()
 	case n < 64:
@@ -80,8 +80,7 @@ func (c *trial) step() {
 	case n < 75:
 		c.scan()
 	case n < 80:
-		tx := c.tx()
-		want(c.t, "P11: Abort", c.db.Abort(tx), c.m.abort(tx))
+		c.abort(c.tx())
 	case n < 99:
 		c.commit(c.tx())
 	default:
@@ -110,12 +109,12 @@ func (c *trial) steps(many int, ahead func()) {
 	}
 }
 
-func (c *trial) begin() {
-	write := c.r.Intn(4) > 0
+func (c *trial) begin(write bool) int {
 	tx, e := c.db.Begin(write)
 	if n, should := c.m.begin(write); tx != n || e != should {
 		c.t.Errorf("P7: Begin(%v) = %d, %d, want %d, %d", write, tx, e, n, should)
 	}
+	return tx
 }
 
 func (c *trial) change() {
@@ -125,8 +124,12 @@ func (c *trial) change() {
 			c.delete(tx, key)
 			continue
 		}
-		want(c.t, fmt.Sprintf("P10: Put(%d, %q, %.9q)", tx, key, value), c.db.Put(tx, key, value), c.m.put(tx, key, value))
+		c.put(tx, key, value)
 	}
+}
+
+func (c *trial) put(tx int, key string, value string) {
+	want(c.t, fmt.Sprintf("P10: Put(%d, %q, %.9q)", tx, key, value), c.db.Put(tx, key, value), c.m.put(tx, key, value))
 }
 
 // excused: P12 and P14, a call that reads told ErrDisk of a dead file, or ErrCorrupt of one with a byte that was turned, which it may in the stead of what it should tell.
@@ -182,6 +185,10 @@ func (c *trial) each(tx int, from string, to string, should []api.Pair) {
 	wantEach(c.t, c.db, tx, from, to, should)
 }
 
+func (c *trial) abort(tx int) {
+	want(c.t, fmt.Sprintf("P11: Abort(%d)", tx), c.db.Abort(tx), c.m.abort(tx))
+}
+
 func (c *trial) commit(tx int) {
 	failed, dead := c.f.Failed(), c.f.Dead()
 	e := c.db.Commit(tx)
@@ -207,6 +214,14 @@ func (c *trial) wantSeen(tx int, should map[string]string) {
 	if !c.excused(e, api.OK) && (e != api.OK || !slices.Equal(list, listed(should))) {
 		c.t.Errorf("P8: Scan(%d) = %s, %d, want %s", tx, shown(list), e, shown(listed(should)))
 	}
+}
+
+// wantSure: P8 and P12, what is sure is seen by a transaction that begins now, and found by Open.
+func (c *trial) wantSure() {
+	tx := c.begin(false)
+	c.wantSeen(tx, c.m.sure)
+	c.abort(tx)
+	c.wantFound()
 }
 
 // wantFound: P12 and P14, what Open finds behind a crash that comes now.

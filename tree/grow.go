@@ -9,7 +9,7 @@ import (
 const (
 	// room is how many bytes a leaf's entries, or a branch's kids and keys, have in a page: all but the kind, their number and the check sum.
 	room = api.PageSize - 1 - 1 - 4
-	// least is with how many a page stands alone. A branch of one kid, which is no page, has fewer, and so has a leaf that is better off with its neighbour.
+	// least is with how many a page stands alone. A branch of one kid, which is no page, has fewer, and so has a leaf that is better off with its neighbour. No piece of what is cut has fewer.
 	least = room / 4
 )
 
@@ -39,22 +39,23 @@ func total[T any](list []T, size func(T) int) int {
 	return sum
 }
 
-// share is how many of a list, from the first on, fill a page up to an aim, and how much that is. There is more in the list than a page has room for.
-func share[T any](list []T, size func(T) int, aim int) (int, int) {
+// share is how many of a list, from the first on, come nearest to half of all, but fit a page, and how much that is. All is more than a page has room for.
+func share[T any](list []T, size func(T) int, all int) (int, int) {
 	n, filled := 0, 0
-	for filled < aim && filled+size(list[n]) <= room {
+	// One that lies across the middle is taken, if the greater part of it lies ahead.
+	for 2*filled+size(list[n]) <= all && filled+size(list[n]) <= room {
 		filled += size(list[n])
 		n++
 	}
 	return n, filled
 }
 
-// cut parts a list into pieces that fit a page. None has far less than half of what it could share with the next one, so that none is left with next to nothing.
+// cut parts a list into pieces that fit a page. If they are several, each has at least half of a page less half of the greatest entry: so none is too small, which joined leans on.
 func cut[T any](list []T, size func(T) int) [][]T {
 	var pieces [][]T
 	rest := total(list, size)
 	for rest > room {
-		n, filled := share(list, size, rest/2)
+		n, filled := share(list, size, rest)
 		pieces = append(pieces, list[:n])
 		list = list[n:]
 		rest -= filled
@@ -116,16 +117,21 @@ func (t Tree) changed(place int, within span, changes Changes) []node {
 	return newBranches(t.joined(all))
 }
 
-// joined puts each node that is too small together with its neighbour.
+// joined puts each node that is too small together with a neighbour: so none is left, unless it is alone. A branch of one kid must not be left beside others, for it is no page.
 func (t Tree) joined(nodes []node) []node {
 	var all []node
 	for _, n := range nodes {
-		last := len(all) - 1
-		if last < 0 || !tooSmall(all[last]) && !tooSmall(n) {
-			all = append(all, n)
-			continue
+		next := []node{n}
+		// What two become may be too small again, for their kids are joined too: then it is put together with the one ahead of them. Of what is cut into several none is.
+		for len(next) == 1 && len(all) > 0 {
+			last := len(all) - 1
+			if !tooSmall(all[last]) && !tooSmall(next[0]) {
+				break
+			}
+			next = t.together(all[last], next[0])
+			all = all[:last]
 		}
-		all = append(all[:last], t.together(all[last], n)...)
+		all = append(all, next...)
 	}
 	return all
 }
@@ -142,7 +148,7 @@ func (t Tree) together(a node, b node) []node {
 	if len(a.entries) > 0 || len(b.entries) > 0 {
 		giveUp(api.ErrCorrupt)
 	}
-	// One of the two may have been small by a single kid that is too small itself.
+	// A kid that was alone in one of the two may be too small itself.
 	return newBranches(t.joined(slices.Concat(a.kids, b.kids)))
 }
 
